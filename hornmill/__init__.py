@@ -1,0 +1,1 @@
+"""Hornmill: the machine of Prolog."""
