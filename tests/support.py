@@ -6,6 +6,7 @@ The slow ways follow DOC.md word by word and share no code with the package.
 import random
 
 from hornmill import errors
+from hornmill.signs import tokens
 
 PERCENT = chr(37)
 
@@ -20,7 +21,7 @@ def odd_values():
         None, True, False, 1.5, float("nan"), 2j, b"a", bytearray(b"a"), memoryview(b"a"),
         {}, {"a": 1}, {(0,): "a"}, set(), {1}, frozenset([1]), range(3), slice(1),
         object(), int, tuple, len, Unlike(), Ellipsis, NotImplemented, iter([]), (x for x in ()),
-        lambda: 1, errors, errors.HornError("x"), errors.BadTerm("a"), ValueError(),
+        lambda: 1, errors, errors.HornError("x"), errors.BadTerm("a"), errors.NoText(3), ValueError(),
     ]
 
 
@@ -142,3 +143,174 @@ def slow_unify(pairs):
         else:
             return None
     return table
+
+
+class Wrong(Exception):
+    """A token that can not stand where it is."""
+
+
+class Short(Exception):
+    """A text that ends too early."""
+
+
+class SlowReader:
+    """[2.5], function by function."""
+
+    def __init__(self, text, table):
+        self.text = text
+        self.row = tokens(text)
+        self.at = 0
+        self.pre = {name: (p, k) for p, k, name in table if k in ("fx", "fy")}
+        self.post = {name: (p, k) for p, k, name in table if k not in ("fx", "fy")}
+        self.post[","] = (1000, "xfy")
+        self.names = []
+
+    def token(self, ahead=0):
+        at = self.at + ahead
+        return self.row[at] if at < len(self.row) else (None, None, len(self.text), True)
+
+    def stop(self):
+        if self.token()[0] is None:
+            raise Short(self.token()[2])
+        raise Wrong(self.token()[2])
+
+    def mark(self, sign, ahead=0):
+        return self.token(ahead)[:2] == ("mark", sign)
+
+    def need(self, sign):
+        if not self.mark(sign):
+            self.stop()
+        self.at += 1
+
+    def whole(self):
+        term = self.read(1200)
+        if self.token()[0] == "end":
+            self.at += 1
+        if self.token()[0] is not None:
+            raise Wrong(self.token()[2])
+        return term, self.names
+
+    def read(self, bound):
+        term, priority = self.first(bound)
+        while True:
+            kind, name = self.token()[:2]
+            if not (kind == "name" or (kind, name) == ("mark", ",")) or name not in self.post:
+                return term
+            r, k = self.post[name]
+            left = r if k in ("yfx", "yf") else r - 1
+            if r > bound or priority > left:
+                return term
+            self.at += 1
+            if k in ("xf", "yf"):
+                term = (name, term)
+            else:
+                term = (name, term, self.read(r if k == "xfy" else r - 1))
+            priority = r
+
+    def several(self, most):
+        found = [self.read(999)]
+        while self.mark(",") and len(found) < most:
+            self.at += 1
+            found.append(self.read(999))
+        return found
+
+    def first(self, bound):
+        kind, value = self.token()[:2]
+        if kind is None or kind == "end":
+            self.stop()
+        if kind == "integer":
+            self.at += 1
+            return value, 0
+        if kind == "variable":
+            self.at += 1
+            if value == "_" or value not in self.names:
+                self.names.append(value)
+                return (len(self.names) - 1,), 0
+            return (self.names.index(value),), 0
+        if kind == "mark":
+            return self.bracket(value), 0
+        self.at += 1
+        return self.name(kind, value, bound)
+
+    def bracket(self, sign):
+        if sign not in "([{":
+            self.stop()
+        self.at += 1
+        if sign == "(":
+            term = self.read(1200)
+            self.need(")")
+            return term
+        close = {"[": "]", "{": "}"}[sign]
+        if self.mark(close):
+            self.at += 1
+            if self.mark("(") and not self.token()[3]:
+                return self.compound(sign + close)
+            return sign + close
+        if sign == "{":
+            term = self.read(1200)
+            self.need("}")
+            return ("{}", term)
+        items = self.several(10 ** 9)
+        tail = "[]"
+        if self.mark("|"):
+            self.at += 1
+            tail = self.read(999)
+        self.need("]")
+        return list_of(items, tail)
+
+    def compound(self, name):
+        self.need("(")
+        args = self.several(8)
+        self.need(")")
+        return (name, *args)
+
+    def name(self, kind, name, bound):
+        if self.mark("(") and not self.token()[3]:
+            return self.compound(name), 0
+        if kind == "name" and name == "-" and self.token()[0] == "integer" and not self.token()[3]:
+            self.at += 1
+            return -self.token(-1)[1], 0
+        if kind == "name" and name in self.pre and self.pre[name][0] <= bound and self.can_begin():
+            r, k = self.pre[name]
+            return (name, self.read(r if k == "fy" else r - 1)), r
+        return name, 0
+
+    def can_begin(self):
+        kind, value = self.token()[:2]
+        if kind in ("integer", "variable", "quoted"):
+            return True
+        if kind == "mark":
+            return value in "([{"
+        if kind != "name":
+            return False
+        if value in self.post and value not in self.pre:
+            if self.mark("(", 1) and not self.token(1)[3]:
+                return True
+            return value == "-" and self.token(1)[0] == "integer" and not self.token(1)[3]
+        return True
+
+
+def slow_read(text, table):
+    """("yes", (term, names)), ("wrong", place) or ("short", place)."""
+    try:
+        return ("yes", SlowReader(text, table).whole())
+    except Wrong as error:
+        return ("wrong", error.args[0])
+    except Short as error:
+        return ("short", error.args[0])
+
+
+def some_table(rng, names):
+    """A table by chance."""
+    found = []
+    for name in names:
+        if rng.randrange(2):
+            found.append((some_priority(rng), rng.choice(["fx", "fy"]), name))
+        if rng.randrange(2):
+            found.append((some_priority(rng), rng.choice(["xfx", "xfy", "yfx", "xf", "yf"]), name))
+    rng.shuffle(found)
+    return found
+
+
+def some_priority(rng):
+    return rng.choice([1, 2, 200, 200, 500, 500, 700, 998, 999, 1000, 1001, 1199, 1200, rng.randint(1, 1200)])

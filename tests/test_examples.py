@@ -4,8 +4,14 @@ import doctest
 import pathlib
 import unittest
 
+from hornmill.errors import NoText
+from hornmill.general import join_of, meet_of
+from hornmill.operators import standard, with_operator
+from hornmill.reader import ending, read_term
+from hornmill.signs import tokens
 from hornmill.terms import depth_of, renumbered, size_of, variables_of
 from hornmill.unify import is_most_general, unify
+from hornmill.writer import brackets, written
 
 
 class Examples(unittest.TestCase):
@@ -13,6 +19,11 @@ class Examples(unittest.TestCase):
         t = ("f", (7,), ("g", (3,), (7,)), "a")
         self.assertEqual([size_of(t), depth_of(t), variables_of(t), renumbered(t)],
                          [6, 3, [7, 3], ("f", (0,), ("g", (1,), (0,)), "a")])
+
+    def test_general(self):
+        self.assertEqual(
+            [join_of(("f", "a", "a", ("g", "a")), ("f", "b", "b", ("g", "c"))), meet_of(("f", (0,), "a"), ("f", "b", (0,)))],
+            [("f", (0,), (0,), ("g", (1,))), ("f", "b", "a")])
 
     def test_unify(self):
         pairs = [(("f", (0,), (0,)), ("f", (1,), "a"))]
@@ -24,6 +35,26 @@ class Examples(unittest.TestCase):
     def test_the_forty_pairs(self):
         pairs = [((k + 1,), ("f", (k,), (k,))) for k in range(40)]
         self.assertIs(is_most_general(pairs, unify(pairs)), True)
+
+    def test_tokens(self):
+        self.assertEqual(tokens("f(- 1)"), [
+            ("name", "f", 0, False), ("mark", "(", 1, False), ("name", "-", 2, False), ("integer", 1, 4, True),
+            ("mark", ")", 5, False)])
+
+    def test_reader(self):
+        self.assertEqual(read_term("X = f(Y, [- 1, -1|X])", standard()),
+                         (("=", (0,), ("f", (1,), (".", ("-", 1), (".", -1, (0,))))), ["X", "Y"]))
+        with self.assertRaises(NoText) as caught:
+            read_term("a = b = c", standard())
+        self.assertEqual(caught.exception.why, 6)
+        self.assertEqual([ending("f([a|", standard()), ending("- (1", standard())], [" a])", ")"])
+
+    def test_writer(self):
+        term = ("-", ("-", 1), ("-", 2, ("=", "+", (7,))))
+        self.assertEqual([written(term, standard()), brackets(term, standard())], ["- 1 - (2 - ('+' = A))", 2])
+
+    def test_operators(self):
+        self.assertEqual(with_operator([(700, "xfx", "is")], 200, "xf", "is"), [(200, "xf", "is")])
 
     def test_readme(self):
         path = pathlib.Path(__file__).resolve().parent.parent / "README.md"

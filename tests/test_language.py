@@ -18,6 +18,12 @@ INTERFACE = {
     "terms": ["is_term(thing)", "size_of(term)", "depth_of(term)", "variables_of(term)", "renumbered(term)"],
     "order": ["compare_terms(one, other)", "sort_terms(terms)"],
     "unify": ["resolved_term(term, bindings)", "unify(pairs)", "is_unifier(pairs, bindings)", "is_most_general(pairs, bindings)"],
+    "general": ["matching(general, special)", "subsumes(general, special)", "is_variant(one, other)", "meet_of(one, other)",
+                "join_of(one, other)"],
+    "signs": ["tokens(text)"],
+    "operators": ["standard()", "with_operator(table, priority, kind, name)"],
+    "reader": ["read_term(text, table)", "read_terms(text, table)", "ending(text, table)"],
+    "writer": ["written(term, table)", "brackets(term, table)"],
 }
 
 BUILTINS = set("""len range enumerate zip min max sum abs sorted reversed int str bool bytes list tuple dict set isinstance ord

@@ -3,13 +3,14 @@
 import unittest
 
 from hornmill.errors import BadBindings, BadPairs, BadTerm
+from hornmill.general import is_variant, join_of, matching, meet_of, subsumes
 from hornmill.order import compare_terms, sort_terms
 from hornmill.terms import depth_of, renumbered, size_of, variables_of
 from hornmill.unify import is_most_general, is_unifier, resolved_term, unify
 from tests.support import odd_bindings, odd_pairs, odd_terms
 
 OF_ONE_TERM = (size_of, depth_of, variables_of, renumbered)
-OF_TWO_TERMS = (compare_terms,)
+OF_TWO_TERMS = (compare_terms, matching, subsumes, is_variant, meet_of, join_of)
 OF_BOTH = (is_unifier, is_most_general)
 
 
