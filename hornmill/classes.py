@@ -62,7 +62,7 @@ class Classes:
                 needs[at] = [self.root(one) for one in inner]
         return settled(needs) is None
 
-    def bindings(self):
+    def as_bindings(self):
         """The bindings by which all parts of each class become equal.
 
         A term has a variable for each inner class that has one. So the terms have no more

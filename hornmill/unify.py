@@ -25,7 +25,7 @@ def unify(pairs):
     classes = Classes(parts.rows)
     if not classes.merge(sides) or classes.has_round():
         return None
-    return classes.bindings()
+    return classes.as_bindings()
 
 
 def is_unifier(pairs, bindings):

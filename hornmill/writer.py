@@ -62,7 +62,7 @@ class Writer:
             return ["{", (term[1], GREATEST, False, 0), "}"]
         operator = self._operator_of(term)
         if operator is None:
-            return [_atom_text(term[0], False), "(", *_with_commas(term[1:]), ")"]
+            return [_atom_text(term[0], False), "("] + _with_commas(term[1:]) + [")"]
         return self._operator_row(term, operator, bound, rival)
 
     def _operator_of(self, term):
@@ -81,7 +81,7 @@ class Writer:
         if priority <= bound and not (priority == rival and kind in ("xfy", "fy")):
             return row
         self.many += 1
-        return ["(", *row, ")"]
+        return ["("] + row + [")"]
 
 
 def _operands_row(term, priority, kind):
@@ -102,7 +102,7 @@ def _list_row(term):
     while isinstance(term, tuple) and len(term) == 3 and term[0] == ".":
         items.append(term[1])
         term = term[2]
-    row = ["[", *_with_commas(items)]
+    row = ["["] + _with_commas(items)
     if term != "[]":
         row.extend(["|", (term, ARGUMENT, False, 0)])
     row.append("]")

@@ -201,6 +201,16 @@ class Language(unittest.TestCase):
                         for kind in (str, int, list, tuple, dict, set, bytes):
                             self.assertTrue(node.attr in ATTRIBUTES or not hasattr(kind, node.attr))
 
+    def test_no_name_is_a_method_and_an_attribute(self):
+        methods, attributes = set(), set()
+        for _, tree in trees():
+            for node in ast.walk(tree):
+                if isinstance(node, ast.ClassDef):
+                    methods |= {inner.name for inner in node.body if isinstance(inner, ast.FunctionDef)}
+                if isinstance(node, ast.Attribute) and isinstance(node.ctx, ast.Store):
+                    attributes.add(node.attr)
+        self.assertEqual(methods & attributes, set())
+
     def test_strings(self):
         for name, tree in trees():
             told = docstrings(tree)
