@@ -7,18 +7,23 @@ from hornmill.terms import demand_term, is_variable, renumbered
 
 def written(term, table):
     """Return the text of a term."""
-    return "".join(_writer_of(term, table).pieces)
+    return "".join(_writer_of(term, table, True).pieces)
+
+
+def unquoted(term, table):
+    """Return the text of a term with all atoms as they are."""
+    return "".join(_writer_of(term, table, False).pieces)
 
 
 def brackets(term, table):
     """Return how many operators' compounds the text of a term has between ( and )."""
-    return _writer_of(term, table).many
+    return _writer_of(term, table, True).many
 
 
-def _writer_of(term, table):
+def _writer_of(term, table, with_quotes):
     demand_term(term)
     demand_table(table)
-    writer = Writer(table)
+    writer = Writer(table, with_quotes)
     writer.write(renumbered(term))
     return writer
 
@@ -26,7 +31,8 @@ def _writer_of(term, table):
 class Writer:
     """Makes the text of a term: its pieces, and how many brackets it needed for operators."""
 
-    def __init__(self, table):
+    def __init__(self, table, with_quotes):
+        self.with_quotes = with_quotes
         self.prefix = prefix_operators(table)
         self.others = other_operators(table)
         self.pieces = []
@@ -55,15 +61,19 @@ class Writer:
         if isinstance(term, int):
             return [str(term)]
         if isinstance(term, str):
-            return [_atom_text(term, is_operand and (term in self.prefix or term in self.others))]
+            return [self._atom(term, is_operand and (term in self.prefix or term in self.others))]
         if term[0] == "." and len(term) == 3:
             return _list_row(term)
         if term[0] == "{}" and len(term) == 2:
             return ["{", (term[1], GREATEST, False, 0), "}"]
         operator = self._operator_of(term)
         if operator is None:
-            return [_atom_text(term[0], False), "("] + _with_commas(term[1:]) + [")"]
+            return [self._atom(term[0], False), "("] + _with_commas(term[1:]) + [")"]
         return self._operator_row(term, operator, bound, rival)
+
+    def _atom(self, atom, must_quote):
+        """An atom, in quotes if it needs them."""
+        return _atom_text(atom, must_quote) if self.with_quotes else atom
 
     def _operator_of(self, term):
         """The priority and the kind of the operator with which a compound is written, or None."""

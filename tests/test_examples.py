@@ -4,13 +4,17 @@ import doctest
 import pathlib
 import unittest
 
+from hornmill.builtins import builtin_row
+from hornmill.collects import free_of, grouped
 from hornmill.errors import NoText
+from hornmill.flat import flattened
 from hornmill.general import join_of, meet_of
 from hornmill.operators import standard, with_operator
 from hornmill.reader import ending, read_term
 from hornmill.signs import tokens
 from hornmill.terms import depth_of, renumbered, size_of, variables_of
 from hornmill.unify import is_most_general, unify
+from hornmill.world import World
 from hornmill.writer import brackets, written
 
 
@@ -55,6 +59,36 @@ class Examples(unittest.TestCase):
 
     def test_operators(self):
         self.assertEqual(with_operator([(700, "xfx", "is")], 200, "xf", "is"), [(200, "xf", "is")])
+
+    def test_builtins(self):
+        self.assertEqual(
+            [builtin_row(None, ("arg", 3), ((0,), ("f", "a", "b"), (1,)), 0), builtin_row(None, ("functor", 3), ((0,), "f", 2), 0)],
+            [("row", [((0,), 1), ((1,), "a")], 1), ("row", [((0,), ("f", (1,), (2,)))], None)])
+
+    def test_collects(self):
+        self.assertEqual(free_of((0,), ("^", (1,), ("p", (2,), (0,), (1,), ("g", (3,))))), ([2, 3], ("p", (2,), (0,), (1,), ("g", (3,)))))
+        pairs = [("b", 1), ("a", 2), ("b", 0), (("f", (3,)), (3,)), (("f", (5,)), ("g", (5,), (6,)))]
+        self.assertEqual(grouped("bagof", pairs), [("a", [2]), ("b", [1, 0]), (("f", (3,)), [(3,), ("g", (3,), (6,))])])
+
+    def test_flat(self):
+        self.assertEqual(
+            flattened((":-", ("p", (0,)), (";", ("->", ("q", (0,)), "!"), ("r", (0,), (1,)))), 0),
+            [(("p", 1), ((0,),), (("entry", (1,)), ("call", (0, 2), ((0,), (1,))))),
+             ((0, 2), ((0,), (1,)), (("entry", (2,)), ("call", ("q", 1), ((0,),)), ("cut", (2,)), ("cut", (1,)))),
+             ((0, 2), ((0,), (1,)), (("call", ("r", 2), ((0,), (2,))),))])
+
+    def test_worlds(self):
+        world = World([("p", 1), ("p", 2), (":-", ("q", (0,)), (",", ("p", (0,)), "!"))])
+        one = world.query(("q", (5,)))
+        self.assertEqual([one.next(), one.next(), one.calls(), one.choices(), one.is_open()], [("yes", [1]), ("no",), 2, 1, False])
+        goal = ("catch", (",", ("p", (0,)), ("throw", ("b", (0,)))), ("b", (1,)), "true")
+        one = World([("p", 1), ("p", 2)]).query(goal)
+        self.assertEqual([one.next(), one.next()], [("yes", [(0,), 1]), ("no",)])
+        world = World([("p", 1)])
+        error = ("error", ("existence_error", "procedure", ("/", "nobody", 0)), ("/", "nobody", 0))
+        self.assertEqual(
+            [world.query((",", ("p", (0,)), ("assertz", ("p", ("f", (0,)))))).next(), world.clauses(("p", 1)), world.query("nobody").next()],
+            [("yes", [1]), [(":-", ("p", 1), "true"), (":-", ("p", ("f", 1)), "true")], ("thrown", error)])
 
     def test_readme(self):
         path = pathlib.Path(__file__).resolve().parent.parent / "README.md"

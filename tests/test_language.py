@@ -24,6 +24,15 @@ INTERFACE = {
     "operators": ["standard()", "with_operator(table, priority, kind, name)"],
     "reader": ["read_term(text, table)", "read_terms(text, table)", "ending(text, table)"],
     "writer": ["written(term, table)", "brackets(term, table)"],
+    "bodies": ["is_body(term)", "is_clause(term)", "stored(clause)"],
+    "flat": ["flattened(clause, first)", "flat_goal(goal, name)"],
+    "meaning": ["Query.next()", "Query.is_open()", "Query.calls()", "Query.choices()", "Query.standing()"],
+    "builtins": ["builtin_row(world, key, args, k)", "sort_of(key)"],
+    "none": [],
+    "reckon": ["reckoned(term)"],
+    "world": ["World(clauses=())", "World.query(goal, *, limit=2000)", "World.clauses(key)", "World.flat(key)", "World.known()",
+              "World.output()"],
+    "collects": ["library()", "free_of(template, goal)", "grouped(word, pairs)"],
 }
 
 BUILTINS = set("""len range enumerate zip min max sum abs sorted reversed int str bool bytes list tuple dict set isinstance ord
@@ -44,9 +53,9 @@ ATTRIBUTES = set("count index title find get join lower upper split strip copy a
 
 STATEMENTS = (
     ast.Assign, ast.AugAssign, ast.If, ast.While, ast.For, ast.Return, ast.Break, ast.Continue, ast.Pass, ast.Raise, ast.Assert,
-    ast.Delete, ast.Expr, ast.FunctionDef, ast.ClassDef, ast.ImportFrom)
+    ast.Delete, ast.Expr, ast.FunctionDef, ast.ClassDef, ast.ImportFrom, ast.Try)
 EXPRESSIONS = (
-    ast.BoolOp, ast.BinOp, ast.UnaryOp, ast.Lambda, ast.IfExp, ast.Dict, ast.ListComp, ast.DictComp, ast.Compare, ast.Call,
+    ast.BoolOp, ast.BinOp, ast.UnaryOp, ast.Lambda, ast.IfExp, ast.Dict, ast.ListComp, ast.DictComp, ast.SetComp, ast.Compare, ast.Call,
     ast.JoinedStr, ast.FormattedValue, ast.Constant, ast.Attribute, ast.Subscript, ast.Starred, ast.Name, ast.List, ast.Tuple,
     ast.Slice)
 
@@ -127,6 +136,22 @@ class Language(unittest.TestCase):
                         self.assertIsInstance(node.exc, ast.Call)
                         self.assertIsInstance(node.exc.func, ast.Name)
 
+    def test_handlers_and_sets(self):
+        own = {node.name for _, tree in trees() for node in tree.body if isinstance(node, ast.ClassDef)}
+        for name, tree in trees():
+            held = set()
+            for node in ast.walk(tree):
+                if isinstance(node, ast.Call) and isinstance(node.func, ast.Name) and node.func.id in ("len", "sorted"):
+                    held.add(node.args[0])
+            for node in ast.walk(tree):
+                with self.subTest(name, line=getattr(node, "lineno", 0)):
+                    if isinstance(node, ast.Try):
+                        self.assertEqual(node.finalbody, [])
+                        for handler in node.handlers:
+                            self.assertIn(handler.type.id, own | {"KeyError"})
+                    if isinstance(node, ast.SetComp):
+                        self.assertIn(node, held)
+
     def test_imports(self):
         needs = {}
         for name, tree in trees():
@@ -174,7 +199,8 @@ class Language(unittest.TestCase):
                     self.assertRegex(word, r"^(_?[A-Za-z][A-Za-z0-9_]*|_|__init__)$")
                     if not is_attribute:
                         self.assertNotIn(word, NO_NAMES)
-                        self.assertFalse(hasattr(builtins, word))
+                        # Doctests give "_" to the builtins.
+                        self.assertTrue(word == "_" or not hasattr(builtins, word))
             for node in ast.walk(tree):
                 if isinstance(node, ast.FunctionDef):
                     inner = [arg.arg for arg in node.args.args]
@@ -242,8 +268,13 @@ class Interface(unittest.TestCase):
             for row in rows:
                 name, _, args = row.partition("(")
                 with self.subTest(module, name=name):
-                    thing = getattr(there, name)
+                    home, _, method = name.partition(".")
+                    thing = getattr(there, home)
                     self.assertEqual(thing.__module__, f"hornmill.{module}")
+                    if method:
+                        self.assertIn(method, vars(thing))
+                        thing = getattr(thing, method)
+                        args = f"self, {args}" if args != ")" else "self)"
                     if args:
                         self.assertEqual(str(inspect.signature(thing)), f"({args}")
 
