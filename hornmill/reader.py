@@ -54,4 +54,4 @@ def _take_end(parser):
     """Take an end; nothing else can stand behind a whole term."""
     if not parser.is_at("end", "."):
         parser.refuse()
-    parser.at += 1
+    parser.place += 1

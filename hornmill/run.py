@@ -20,7 +20,7 @@ class Run:
     def __init__(self, world, goal, limit):
         self.world = world
         self.limit = limit
-        self.trail = []
+        self.links = []
         self.stack = []
         self.called = 0
         self.made = 0
@@ -66,7 +66,7 @@ class Run:
         self.task = task.behind
         if not self.stack:
             # Nothing can be undone any more.
-            self.trail.clear()
+            self.links.clear()
         if task.word == "goal":
             return self._goal(task)
         if task.word == "collect":
@@ -93,7 +93,7 @@ class Run:
             return self._call(key, things, task.behind)
         if key == ("=", 2):
             # As its row has it, but without reading terms that may be great.
-            return join(things[0], things[1], self.trail)
+            return join(things[0], things[1], self.links)
         row, variables = self._row(key, things, 0)
         if row[0] == "none":
             return False
@@ -104,7 +104,7 @@ class Run:
     def _call(self, key, things, behind):
         """Call a predicate of the world or of the library."""
         height = self.height()
-        library = self.world.library_clause(key)
+        library = self.world.of_library(key)
         if library is not None:
             return self._enter(library, things, height, behind)
         if self.called == self.limit:
@@ -126,7 +126,7 @@ class Run:
         """Unify the arguments of a call with those of the head of a clause; go on with its body."""
         known = {}
         head, body = kept.clause[1:]
-        if isinstance(head, tuple) and not match(head[1:], things, known, self.trail):
+        if isinstance(head, tuple) and not match(head[1:], things, known, self.links):
             return False
         self.task = Task("goal", body, known, level, behind)
         return True
@@ -143,7 +143,7 @@ class Run:
         """Unify the pairs of a row."""
         known = dict(enumerate(variables))
         for one, other in pairs:
-            if not join(make(one, known), make(other, known), self.trail):
+            if not join(make(one, known), make(other, known), self.links):
                 return False
         return True
 
@@ -153,7 +153,7 @@ class Run:
 
     def choose(self, word, rest, behind):
         """Make a choice."""
-        self.stack.append(Choice(word, rest, behind, len(self.trail)))
+        self.stack.append(Choice(word, rest, behind, len(self.links)))
         self.made += 1
         self.greatest = max(self.greatest, len(self.stack))
 
@@ -172,7 +172,7 @@ class Run:
         """Go on with the last choice; return False if there is none."""
         while self.stack:
             choice = self.stack[-1]
-            unlink(self.trail, choice.length)
+            unlink(self.links, choice.length)
             if self._resume(choice):
                 return True
         return False
@@ -191,7 +191,7 @@ class Run:
             known = {k: thing for k, thing in enumerate(things + [end])}
             many = len(things)
             whole = make(listed([(k,) for k in range(many)], (many,)), known)
-            return join(whole, found, self.trail)
+            return join(whole, found, self.links)
         return choice.word == "goal"
 
     def _next_clause(self, choice):
@@ -220,14 +220,12 @@ class Run:
         task = self.task
         while task is not None:
             if task.word == "leave":
-                unlink(self.trail, self.stack[task.level].length)
+                unlink(self.links, self.stack[task.level].length)
                 self.cut(task.level)
                 catcher, recovery = task.goal
-                length = len(self.trail)
-                if join(catcher, make(ball, {}), self.trail):
+                if join(catcher, make(ball, {}), self.links):
                     self.task = calling(recovery, self.height(), task.behind)
                     return True
-                unlink(self.trail, length)
             task = task.behind
         return False
 

@@ -90,7 +90,7 @@ class World:
         """The clauses of a predicate that live, None if it is not known."""
         return self.kept.get(key)
 
-    def library_clause(self, key):
+    def of_library(self, key):
         """The clause of a predicate of the library, None for any other key."""
         return self.library.get(key)
 

@@ -9,6 +9,7 @@ from hornmill.collects import free_of, grouped
 from hornmill.errors import NoText
 from hornmill.flat import flattened
 from hornmill.general import join_of, meet_of
+from hornmill.heap import Store
 from hornmill.operators import standard, with_operator
 from hornmill.reader import ending, read_term
 from hornmill.signs import tokens
@@ -89,6 +90,25 @@ class Examples(unittest.TestCase):
         self.assertEqual(
             [world.query((",", ("p", (0,)), ("assertz", ("p", ("f", (0,)))))).next(), world.clauses(("p", 1)), world.query("nobody").next()],
             [("yes", [1]), [(":-", ("p", 1), "true"), (":-", ("p", ("f", 1)), "true")], ("thrown", error)])
+
+    def test_store(self):
+        store = Store()
+        cell = store.build(("f", (0,), ("g", (0,))), {})
+        self.assertEqual(
+            [cell, store.heap(), store.read([cell])],
+            [("str", ("h", 0)),
+             [("fun", "f", 2), ("ref", ("h", 1)), ("str", ("h", 3)), ("fun", "g", 1), ("ref", ("h", 1))],
+             ([("f", (0,), ("g", (0,)))], [("h", 1)])])
+
+    def test_two_joins(self):
+        store = Store()
+        one = store.new()
+        store.free(0)
+        store.marks(1, 0)
+        first = store.join(("ref", ("s", 0)), ("ref", one))
+        second = store.join(("ref", ("s", 0)), ("con", "a"))
+        self.assertEqual([first, second, store.at(("s", 0)), store.heap(), store.trail()],
+                         [True, True, ("ref", ("h", 0)), [("con", "a")], [("h", 0)]])
 
     def test_readme(self):
         path = pathlib.Path(__file__).resolve().parent.parent / "README.md"

@@ -32,6 +32,11 @@ INTERFACE = {
     "reckon": ["reckoned(term)"],
     "world": ["World(clauses=())", "World.query(goal, *, limit=2000)", "World.clauses(key)", "World.flat(key)", "World.known()",
               "World.output()"],
+    "cells": ["is_address(value)", "is_cell(value)"],
+    "heap": ["Store()", "Store.heap()", "Store.trail()", "Store.size()", "Store.at(address)", "Store.end(cell)", "Store.new()",
+             "Store.put(cell)", "Store.fill(k, cell)", "Store.free(k)", "Store.marks(heap_mark, stack_mark)", "Store.bind(address, cell)",
+             "Store.undo(length, size)", "Store.build(term, names)", "Store.read(cells)", "Store.contains(address, cell)",
+             "Store.join(one, other)"],
     "collects": ["library()", "free_of(template, goal)", "grouped(word, pairs)"],
 }
 

@@ -44,6 +44,8 @@ class Tests(Asking):
         self.fails(("is_list", 1), list_of([1], "nil"))
         self.fails(("is_list", 1), (".", 1, "[]", "[]"))
         self.fails(("is_list", 1), ("[]", "a"))
+        self.fails(("is_list", 1), ("-", "a", "[]"))
+        self.fails(("is_list", 1), (".", "a", (",", "b", "[]")))
 
     def test_order(self):
         names = {"<": ("@<", "@=<", "\\=="), "=": ("==", "@=<", "@>="), ">": ("@>", "@>=", "\\==")}

@@ -265,6 +265,15 @@ class Calls(Running):
                    "thrown error(existence_error(procedure, w / 7), w / 7)")
         self.check("w(1, 2, 3, 4, 5, 6, 7, 8).", "call(w(1, 2), 3, 4, 5, 6, 7, X)", "8")
 
+    def test_call_with_each_number_of_arguments(self):
+        world = program("".join(f"w({', '.join('abcdefgh'[:many])}). " for many in range(1, 9)))
+        for many in range(1, 8):
+            args = ", ".join("abcdefgh"[:many])
+            self.check(world, f"call(w, {args})", "yes")
+            self.check(world, f"call(w, {args}x)")
+            self.check(world, f"call(w(a), {', '.join('bcdefgh'[:many])})", "yes")
+            self.check(world, f"call(w(X), {', '.join('bcdefgh'[:many])})", "a")
+
     def test_errors_of_call(self):
         inst = "thrown error(instantiation_error, call / {})"
         self.check("", "call(X)", inst.format(1))

@@ -276,7 +276,7 @@ class Length(Asking):
         self.assertEqual(items, [(k,) for k in range(1, 1001)])
 
     def test_errors_in_their_order(self):
-        for wrong in ("x", 5, ("f", 1), list_of([1], "x"), (".", 1)):
+        for wrong in ("x", 5, ("f", 1), list_of([1], "x"), (".", 1), ("-", 1, "[]")):
             self.throws(type_error("list", wrong), self.KEY, wrong, "x")
             self.throws(type_error("list", wrong), self.KEY, wrong, A)
         self.throws(type_error("integer", "x"), self.KEY, A, "x")
