@@ -166,7 +166,8 @@ class Run:
         if self.height() == level + 1:
             self.cut(level)
         else:
-            self.stack[level].word = "struck"
+            choice = self.stack[level]
+            choice.word = "struck"
 
     def _fail(self):
         """Go on with the last choice; return False if there is none."""

@@ -200,6 +200,10 @@ class Constructs(Running):
 
     def test_struck_choices(self):
         self.check(FACTS, "(p(X) *-> true ; X = 0), X > 1", "2", "3")
+        self.check(FACTS, "(p(X), X < 3 *-> true ; X = 0)", "1", "2")
+        self.check(FACTS, "(p(X), X < 3 *-> q(Y) ; X = 0)", "1, a", "1, b", "2, a", "2, b")
+        self.check(FACTS, "((X = 1 ; X = 2, fail) *-> true ; X = 0)", "1")
+        self.check(FACTS + "s(X) :- (p(X), X < 3 *-> true ; X = 0), X > 1. s(9).", "s(X)", "2", "9")
         self.check(FACTS, "((p(X) *-> q(Y) ; fail) ; X = 7)", "1, a", "1, b", "2, a", "2, b", "3, a", "3, b", "7, A")
         self.check(FACTS, "((X = 1 ; X = 2) *-> fail ; X = 3)")
         self.check(FACTS, "((X = 1 ; X = 2) *-> (true ; fail) ; X = 3), !", "1")
@@ -233,6 +237,19 @@ class Calls(Running):
     def test_the_first_argument_is_looked_at_with_its_bindings(self):
         query = program("s(1, a). s(2, b). s(2, c).").query(goal("X = 1, s(X, Y)"))
         self.assertEqual([query.next(), query.choices()], [("yes", [1, "a"]), 0])
+
+    def test_heads_and_arguments_that_do_not_fit(self):
+        world = "s(x, f(a)). s(x, h(f(a), f(a))). s(x, [1])."
+        for one in ("f(b)", "f(1)", "g(a)", "f(a, a)", "a", "f", "h(f(a), g(a))", "h(g(a), f(a))", "h(f(a), f(a), f(a))", "h(f(a), a)", "[2]",
+                    "[1|x]", "[1, 2]", "[]", "'.'(1)", "h(X, X, X)", "h(X, f(X))", "f(f(a))"):
+            self.check(world, f"s(x, {one})")
+            self.check(world, f"X = {one.replace('X', 'Y')}, s(x, X)")
+        self.check(world, "s(x, f(X))", "a")
+        self.check(world, "s(x, h(X, X))", "f(a)")
+        self.check(world, "s(X, [Y|Z])", "x, 1, []")
+        self.check("e(X, X).", "e(f(a), g(a))")
+        self.check("e(X, X).", "e(f(a, Y), f(a))")
+        self.check("e(X, X).", "e(h(f(a), Y), h(g(a), Y))")
 
     def test_all_clauses_without_arguments(self):
         query = program("s. s :- fail. s.").query("s")
