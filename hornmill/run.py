@@ -26,21 +26,18 @@ class Run:
         self.made = 0
         self.greatest = 0
         self.has_begun = False
-        self.has_ended = False
         known = {}
         self.task = calling(make(goal, known), 0, None)
         self.shown = [known[k] for k in numbers_in(goal)]
 
     def advance(self):
         """Go on to the next answer, or to the end."""
-        if self.has_ended:
-            return ("no",)
         try:
             result = self._result()
         except LimitMet:
             result = ("limit",)
         if result[0] != "yes":
-            self.has_ended = True
+            # Without choices it fails each time from now on.
             self.stack.clear()
         return result
 

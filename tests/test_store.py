@@ -38,7 +38,7 @@ def no_cells():
         ("fun", "f", 0), ("fun", "f", 9), ("fun", "f", -1), ("fun", "f", True), ("fun", "f", "1"), ("fun", 5, 1), ("fun", "a" * 41, 1),
         ("fun", "f", 1, 2), ["fun", "f", 1], ("fun", ("f",), 1), ("level", -1), ("level", True), ("level",), ("level", "0"), ("level", None),
         ("level", 0, 0), ("fun", "f", None), ("fun", "f", [1]), ("reff", ("h", 0)), ("var", 0), (True, 0), (0, 0), (b"con", "a"), ("h", 0),
-        ("none", None, None)]
+        ("none", None, None), ("con", "a", 1), ("ref", "a", 1), ("Fun", "a", 2), ("", "a", 1), ("str", "a", 8)]
 
 
 class Cells(unittest.TestCase):
