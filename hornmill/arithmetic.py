@@ -14,13 +14,13 @@ def value_of(term):
 
 
 def _is(asked):
-    result, term = asked.args
+    result, term = asked.terms
     return row_of([(result, value_of(term))])
 
 
 def _values(asked):
     """The values of both arguments, the first one's errors first."""
-    one, other = asked.args
+    one, other = asked.terms
     return value_of(one), value_of(other)
 
 

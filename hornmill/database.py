@@ -26,7 +26,7 @@ def _assertz(asked):
 
 def _assert(asked, is_first):
     """Add a clause ahead of all of its predicate, or behind them."""
-    clause = asked.args[0]
+    clause = asked.terms[0]
     head, body = sides_of(clause)
     demand_bound(head)
     demand_kind("callable", head)
@@ -38,7 +38,7 @@ def _assert(asked, is_first):
 
 
 def _clause(asked):
-    head, body = asked.args
+    head, body = asked.terms
     demand_bound(head)
     demand_kind("callable", head)
     demand_kind("callable", body)
@@ -48,7 +48,7 @@ def _clause(asked):
 
 
 def _retract(asked):
-    head, body = sides_of(asked.args[0])
+    head, body = sides_of(asked.terms[0])
     _demand_changeable(head)
     found = _fitting(asked, head, body)
     if found[0] is None:
@@ -58,7 +58,7 @@ def _retract(asked):
 
 
 def _retractall(asked):
-    head = asked.args[0]
+    head = asked.terms[0]
     _demand_changeable(head)
     world = asked.world
     key = key_of(head)
@@ -102,7 +102,7 @@ def _fitting(asked, head, body):
 
 
 def _abolish(asked):
-    indicator = asked.args[0]
+    indicator = asked.terms[0]
     demand_bound(indicator)
     if not is_of("compound", indicator) or len(indicator) != 3 or indicator[0] != "/":
         raise Fault(("type_error", "predicate_indicator", indicator))
@@ -120,12 +120,12 @@ def _abolish(asked):
 
 
 def _write(asked):
-    asked.world.put_text(unquoted(asked.args[0], standard()))
+    asked.world.put_text(unquoted(asked.terms[0], standard()))
     return row_of([])
 
 
 def _writeq(asked):
-    asked.world.put_text(written(asked.args[0], standard()))
+    asked.world.put_text(written(asked.terms[0], standard()))
     return row_of([])
 
 

@@ -53,7 +53,7 @@ class Flattener:
 
     def __init__(self, args, body, integer, step):
         whole = ("", "", *args, body)
-        self.args = args
+        self.head_terms = args
         self.body = body
         self.integer = integer
         self.step = step
@@ -64,7 +64,7 @@ class Flattener:
 
     def flatten(self, key):
         """The flat clause of this key and, behind it, those of new predicates."""
-        goals = self._begin(key, self.args)
+        goals = self._begin(key, self.head_terms)
         level = None
         if is_open(self.body):
             level = self._new_level()

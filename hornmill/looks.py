@@ -19,37 +19,37 @@ def _order(one, other):
 
 
 def _same(asked):
-    one, other = asked.args
+    one, other = asked.terms
     return passed(_order(one, other) == "=")
 
 
 def _unlike(asked):
-    one, other = asked.args
+    one, other = asked.terms
     return passed(_order(one, other) != "=")
 
 
 def _before(asked):
-    one, other = asked.args
+    one, other = asked.terms
     return passed(_order(one, other) == "<")
 
 
 def _behind(asked):
-    one, other = asked.args
+    one, other = asked.terms
     return passed(_order(one, other) == ">")
 
 
 def _not_behind(asked):
-    one, other = asked.args
+    one, other = asked.terms
     return passed(_order(one, other) != ">")
 
 
 def _not_before(asked):
-    one, other = asked.args
+    one, other = asked.terms
     return passed(_order(one, other) != "<")
 
 
 def _compare(asked):
-    sign, one, other = asked.args
+    sign, one, other = asked.terms
     demand_kind("atom", sign)
     if isinstance(sign, str) and sign not in ("<", "=", ">"):
         raise Fault(("domain_error", "order", sign))
@@ -57,11 +57,11 @@ def _compare(asked):
 
 
 def _cannot_unify(asked):
-    return passed(unify([asked.args]) is None)
+    return passed(unify([asked.terms]) is None)
 
 
 def _subsumes(asked):
-    general, special = asked.args
+    general, special = asked.terms
     found = matching(general, special)
     if found is None:
         return FAILED
@@ -70,39 +70,39 @@ def _subsumes(asked):
 
 
 def _var(asked):
-    return passed(is_variable(asked.args[0]))
+    return passed(is_variable(asked.terms[0]))
 
 
 def _nonvar(asked):
-    return passed(not is_variable(asked.args[0]))
+    return passed(not is_variable(asked.terms[0]))
 
 
 def _atom(asked):
-    return passed(isinstance(asked.args[0], str))
+    return passed(isinstance(asked.terms[0], str))
 
 
 def _integer(asked):
-    return passed(isinstance(asked.args[0], int))
+    return passed(isinstance(asked.terms[0], int))
 
 
 def _atomic(asked):
-    return passed(not isinstance(asked.args[0], tuple))
+    return passed(not isinstance(asked.terms[0], tuple))
 
 
 def _compound(asked):
-    return passed(isinstance(asked.args[0], tuple) and len(asked.args[0]) > 1)
+    return passed(isinstance(asked.terms[0], tuple) and len(asked.terms[0]) > 1)
 
 
 def _callable(asked):
-    return passed(is_callable(asked.args[0]))
+    return passed(is_callable(asked.terms[0]))
 
 
 def _is_list(asked):
-    return passed(is_list(asked.args[0]))
+    return passed(is_list(asked.terms[0]))
 
 
 def _ground(asked):
-    return passed(numbers_in(asked.args[0]) == [])
+    return passed(numbers_in(asked.terms[0]) == [])
 
 
 LOOK_BUILTINS = {

@@ -18,7 +18,7 @@ def copied(asked, term):
 
 
 def _equal(asked):
-    return row_of([asked.args])
+    return row_of([asked.terms])
 
 
 def _fail(asked):
@@ -26,17 +26,17 @@ def _fail(asked):
 
 
 def _copy_term(asked):
-    term, copy = asked.args
+    term, copy = asked.terms
     return row_of([(copy, copied(asked, term))])
 
 
 def _term_variables(asked):
-    term, found = asked.args
+    term, found = asked.terms
     return row_of([(found, listed([(k,) for k in numbers_in(term)]))])
 
 
 def _functor(asked):
-    term, name, many = asked.args
+    term, name, many = asked.terms
     if not is_variable(term):
         if isinstance(term, tuple):
             return row_of([(name, term[0]), (many, len(term) - 1)])
@@ -60,7 +60,7 @@ def _demand_arity(many):
 
 
 def _arg(asked):
-    place, term, argument = asked.args
+    place, term, argument = asked.terms
     demand_kind("integer", place)
     demand_not_negative(place)
     demand_bound(term)
@@ -73,7 +73,7 @@ def _arg(asked):
 
 
 def _univ(asked):
-    term, parts = asked.args
+    term, parts = asked.terms
     if is_of("compound", term) and not is_variable(term):
         return row_of([(parts, listed(term))])
     if not is_variable(term):

@@ -23,10 +23,10 @@ def part_row(key, asked):
 
 
 def _between(asked):
-    low, high, number = asked.args
+    low, high, number = asked.terms
     demand_bound(low)
     demand_bound(high)
-    for term in asked.args:
+    for term in asked.terms:
         demand_kind("integer", term)
     if not is_variable(number):
         return passed(low <= number <= high)
@@ -36,7 +36,7 @@ def _between(asked):
 
 
 def _length(asked):
-    whole, many = asked.args
+    whole, many = asked.terms
     demand_may_be_list(whole)
     demand_kind("integer", many)
     demand_not_negative(many)
@@ -52,17 +52,17 @@ def _length(asked):
 
 
 def _msort(asked):
-    given, result = asked.args
+    given, result = asked.terms
     return row_of([(result, listed(sorted(demand_items(given), key=order_key)))])
 
 
 def _sort(asked):
-    given, result = asked.args
+    given, result = asked.terms
     return row_of([(result, listed(sorted_once(demand_items(given))))])
 
 
 def _keysort(asked):
-    given, result = asked.args
+    given, result = asked.terms
     items = demand_items(given)
     for item in items:
         demand_bound(item)

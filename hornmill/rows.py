@@ -13,7 +13,7 @@ class Asked:
 
     def __init__(self, world, args, k):
         self.world = world
-        self.args = tuple(args)
+        self.terms = tuple(args)
         self.k = k
         self.first = len(numbers_in(("", "", *args)))
 

@@ -20,7 +20,7 @@ def fault_place(key, args):
 
 
 def _split(asked):
-    word, template, goal, found, witness, rest = asked.args
+    word, template, goal, found, witness, rest = asked.terms
     numbers, inner = free_of(template, goal)
     demand_bound(inner)
     demand_kind("callable", inner)
@@ -29,7 +29,7 @@ def _split(asked):
 
 
 def _groups(asked):
-    word, witness, solutions, found = asked.args
+    word, witness, solutions, found = asked.terms
     groups = grouped(word, [(item[1], item[2]) for item in unlisted(solutions)[0]])
     if groups == []:
         return FAILED
@@ -38,7 +38,7 @@ def _groups(asked):
 
 
 def _template(asked):
-    kind, goal, result, template = asked.args
+    kind, goal, result, template = asked.terms
     demand_bound(kind)
     if not _is_aggregate(kind):
         raise Fault(("domain_error", "aggregate", kind))
@@ -54,7 +54,7 @@ def _is_aggregate(kind):
 
 
 def _aggregated(asked):
-    kind, solutions, result = asked.args
+    kind, solutions, result = asked.terms
     items = unlisted(solutions)[0]
     if kind == "count":
         return row_of([(result, len(items))])

@@ -11,7 +11,7 @@ MOST_DIGITS = 300
 
 
 def _atom_length(asked):
-    atom, many = asked.args
+    atom, many = asked.terms
     demand_bound(atom)
     demand_kind("atom", atom)
     demand_kind("integer", many)
@@ -20,7 +20,7 @@ def _atom_length(asked):
 
 
 def _atom_chars(asked):
-    atom, parts = asked.args
+    atom, parts = asked.terms
     demand_kind("atom", atom)
     if not is_variable(atom):
         return row_of([(parts, listed(list(atom)))])
@@ -28,7 +28,7 @@ def _atom_chars(asked):
 
 
 def _atom_codes(asked):
-    atom, parts = asked.args
+    atom, parts = asked.terms
     demand_kind("atom", atom)
     if not is_variable(atom):
         return row_of([(parts, listed([ord(sign) for sign in atom]))])
@@ -42,7 +42,7 @@ def _atom_row(atom, signs):
 
 
 def _char_code(asked):
-    character, code = asked.args
+    character, code = asked.terms
     if is_variable(code):
         demand_bound(character)
     demand_kind("character", character)
@@ -55,7 +55,7 @@ def _char_code(asked):
 
 
 def _number_codes(asked):
-    number, parts = asked.args
+    number, parts = asked.terms
     demand_kind("integer", number)
     if not is_variable(number):
         return row_of([(parts, listed([ord(sign) for sign in str(number)]))])
@@ -71,8 +71,8 @@ def _number_codes(asked):
 
 
 def _atom_concat(asked):
-    first, last, whole = asked.args
-    for term in asked.args:
+    first, last, whole = asked.terms
+    for term in asked.terms:
         demand_kind("atom", term)
     if is_variable(first) or is_variable(last):
         demand_bound(whole)
@@ -87,7 +87,7 @@ def _atom_concat(asked):
 
 
 def _sub_atom(asked):
-    atom, before, many, behind, part = asked.args
+    atom, before, many, behind, part = asked.terms
     demand_bound(atom)
     demand_kind("atom", atom)
     for number in (before, many, behind):
@@ -95,10 +95,10 @@ def _sub_atom(asked):
     demand_kind("atom", part)
     for number in (before, many, behind):
         demand_not_negative(number)
-    rows = [row for row in _pieces(atom) if _may_be(asked.args[1:], row)]
+    rows = [row for row in _pieces(atom) if _may_be(asked.terms[1:], row)]
     if rows == []:
         return FAILED
-    return row_of(list(zip(asked.args[1:], rows[asked.k])), next_of(asked.k, len(rows)))
+    return row_of(list(zip(asked.terms[1:], rows[asked.k])), next_of(asked.k, len(rows)))
 
 
 def _pieces(atom):

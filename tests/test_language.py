@@ -55,6 +55,9 @@ NO_WORDS = set("""type typing enum Enum Flag Generic Protocol ABC namedtuple Nam
     dataclass overload contextmanager""".split())
 DUNDERS = {"__init__"}
 ATTRIBUTES = set("count index title find get join lower upper split strip copy add".split())
+# The names that L26 bars for attributes, whatever values of Python's own have.
+NO_ATTRIBUTES = set("""items keys values pop update append clear extend insert remove reverse setdefault sort args encode decode
+    hex fromhex format""".split())
 
 STATEMENTS = (
     ast.Assign, ast.AugAssign, ast.If, ast.While, ast.For, ast.Return, ast.Break, ast.Continue, ast.Pass, ast.Raise, ast.Assert,
@@ -232,6 +235,19 @@ class Language(unittest.TestCase):
                         for kind in (str, int, list, tuple, dict, set, bytes):
                             self.assertTrue(node.attr in ATTRIBUTES or not hasattr(kind, node.attr))
 
+    def test_no_attribute_has_a_barred_name(self):
+        for name, tree in trees():
+            for word, line in attributes_set(tree):
+                with self.subTest(name, word=word, line=line):
+                    self.assertNotIn(word, NO_ATTRIBUTES)
+
+    def test_barred_attributes_are_found_wherever_they_are_set(self):
+        for text in ("self.{} = 1", "box.rows[0].{} = 1", "one, (two, *self.{}) = row", "self.{} += 1", "self.{}: int = 1",
+                     "for self.{} in rows:\n    pass", "low = box.{} = 1", "with box as self.{}:\n    pass"):
+            for word in sorted(NO_ATTRIBUTES):
+                self.assertEqual([found for found, _ in attributes_set(ast.parse(text.format(word)))], [word])
+        self.assertEqual(list(attributes_set(ast.parse("args = self.args\nself.rows[self.args] = 1"))), [])
+
     def test_no_name_is_a_method_and_an_attribute(self):
         methods, attributes = set(), set()
         for _, tree in trees():
@@ -296,6 +312,13 @@ def defined(tree):
 
 def imported(tree):
     return [one.name for node in tree.body if isinstance(node, ast.ImportFrom) for one in node.names]
+
+
+def attributes_set(tree):
+    """The names of all attributes that are set, and their lines."""
+    for node in ast.walk(tree):
+        if isinstance(node, ast.Attribute) and isinstance(node.ctx, ast.Store):
+            yield node.attr, node.lineno
 
 
 def bound_names(tree):
