@@ -76,7 +76,7 @@ class Flattener:
                 goals.append(level)
             else:
                 waiting.extend(self._parts(without_short_forms(goal), level, goals)[::-1])
-        return [_numbered(key, args, goals) for key, args, goals in self.flats]
+        return [numbered_flat(key, args, goals) for key, args, goals in self.flats]
 
     def _begin(self, key, args):
         """Begin a flat clause, and return the list to which its goals go."""
@@ -146,7 +146,7 @@ class Flattener:
         return [(None, ("entry", entry), goals)] + self._test(goal, goals) + [(None, (word, entry), goals)]
 
 
-def _numbered(key, args, goals):
+def numbered_flat(key, args, goals):
     """The flat clause with its variables numbered by their first occurrence."""
     terms = list(args)
     for goal in goals:

@@ -6,6 +6,7 @@ import unittest
 
 from hornmill.builtins import builtin_row
 from hornmill.collects import free_of, grouped
+from hornmill.compiling import compiled
 from hornmill.errors import NoText
 from hornmill.flat import flattened
 from hornmill.general import join_of, meet_of
@@ -109,6 +110,19 @@ class Examples(unittest.TestCase):
         second = store.join(("ref", ("s", 0)), ("con", "a"))
         self.assertEqual([first, second, store.at(("s", 0)), store.heap(), store.trail()],
                          [True, True, ("ref", ("h", 0)), [("con", "a")], [("h", 0)]])
+
+    def test_compiling(self):
+        self.assertEqual(
+            compiled((("app", 3), ((".", (0,), (1,)), (2,), (".", (0,), (3,))), (("call", ("app", 3), ((1,), (2,), (3,))),))),
+            [("take_new", ("x", 4), 2), ("take_struct", ".", 2, 1), ("arg_new", ("x", 5)), ("arg_new", ("x", 6)), ("take_struct", ".", 2, 3),
+             ("arg_old", ("x", 5)), ("arg_new", ("x", 7)), ("give_old", ("x", 6), 1), ("give_old", ("x", 4), 2), ("give_old", ("x", 7), 3),
+             ("jump", ("app", 3))])
+        goals = (("call", ("rev", 2), ((1,), (3,))), ("call", ("app", 3), ((3,), (".", (0,), "[]"), (2,))))
+        self.assertEqual(
+            compiled((("rev", 2), ((".", (0,), (1,)), (2,)), goals)),
+            [("frame", 3), ("take_new", ("y", 2), 2), ("take_struct", ".", 2, 1), ("arg_new", ("y", 1)), ("arg_new", ("x", 4)), ("give_old", ("x", 4), 1),
+             ("give_new", ("y", 3), 2), ("call", ("rev", 2), 3), ("give_unsafe", ("y", 3), 1), ("give_struct", ".", 2, 2), ("arg_old", ("y", 1)),
+             ("arg_const", "[]"), ("give_old", ("y", 2), 3), ("unframe",), ("jump", ("app", 3))])
 
     def test_readme(self):
         path = pathlib.Path(__file__).resolve().parent.parent / "README.md"

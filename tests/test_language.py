@@ -38,6 +38,10 @@ INTERFACE = {
              "Store.undo(length, size)", "Store.build(term, names)", "Store.read(cells)", "Store.contains(address, cell)",
              "Store.join(one, other)"],
     "collects": ["library()", "free_of(template, goal)", "grouped(word, pairs)"],
+    "code": ["is_instruction(thing)", "is_code(thing)", "registers(code)", "slots_of(code)"],
+    "chunks": ["chunks(flat)", "slots(flat)", "trims(flat)", "has_frame(flat)"],
+    "compiling": ["compiled(flat)", "unsafe(flat)", "size(flat)"],
+    "clausecode": ["flat_of(key, code)"],
 }
 
 BUILTINS = set("""len range enumerate zip min max sum abs sorted reversed int str bool bytes list tuple dict set isinstance ord
