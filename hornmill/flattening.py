@@ -43,7 +43,7 @@ def _times(term):
 class Flattener:
     """Flattens a clause with some arguments and a body.
 
-    integer is the name of the next new predicate, step leads to the one behind it. flats
+    integer is the name of the next new predicate, stride leads to the one behind it. flats
     are the flat clauses so far, before their variables are numbered.
 
     What is still to be flattened waits in rows, as tuples (goal, level, goals): goals is the
@@ -51,12 +51,12 @@ class Flattener:
     is made already in the place of the level.
     """
 
-    def __init__(self, args, body, integer, step):
+    def __init__(self, args, body, integer, stride):
         whole = ("", "", *args, body)
         self.head_terms = args
         self.body = body
         self.integer = integer
-        self.step = step
+        self.stride = stride
         self.times = _times(whole)
         self.order = numbers_in(whole)
         self.fresh = max(self.order, default=-1) + 1
@@ -125,7 +125,7 @@ class Flattener:
         else:
             level = None
         key = (self.integer, len(args))
-        self.integer += self.step
+        self.integer += self.stride
         goals.append(("call", key, tuple(args)))
         first = self._begin(key, tuple(args))
         second = self._begin(key, tuple(args))

@@ -23,8 +23,8 @@ class Parser:
     """
 
     def __init__(self, row, table):
-        self.row = row
-        self.place = 0
+        self.pieces = row
+        self.token_at = 0
         self.prefix = prefix_operators(table)
         self.others = other_operators(table)
         self.begin()
@@ -39,15 +39,15 @@ class Parser:
 
     def is_over(self):
         """Tell whether no token is left."""
-        return self.place >= len(self.row)
+        return self.token_at >= len(self.pieces)
 
     def is_at(self, kind, value):
         """Tell whether the next token is this one."""
-        return not self.is_over() and self.row[self.place][:2] == (kind, value)
+        return not self.is_over() and self.pieces[self.token_at][:2] == (kind, value)
 
     def refuse(self):
         """Raise NoText, as the next token can not stand where it is."""
-        raise NoText(self.row[self.place][2])
+        raise NoText(self.pieces[self.token_at][2])
 
     def read(self):
         """READ with 1200: tell whether the tokens go as far; found has the term then."""
@@ -70,17 +70,17 @@ class Parser:
 
     def _first(self):
         """Take the first token of a first term, and what belongs to it at once."""
-        kind, value = self.row[self.place][:2]
+        kind, value = self.pieces[self.token_at][:2]
         if kind == "end" or (kind == "mark" and value not in OPEN):
             self.refuse()
-        self.place += 1
+        self.token_at += 1
         if kind == "integer":
             self.found = (value, 0)
         elif kind == "variable":
             self.found = ((self._number(value),), 0)
         elif kind == "mark":
             self._opened(value)
-        elif self._is_open_at(self.place):
+        elif self._is_open_at(self.token_at):
             self._compound(value)
         elif kind == "quoted":
             self.found = (value, 0)
@@ -99,9 +99,9 @@ class Parser:
         if sign == "(":
             self._enter(sign, GREATEST)
         elif self.is_at("mark", CLOSING[sign]):
-            self.place += 1
+            self.token_at += 1
             name = sign + CLOSING[sign]
-            if self._is_open_at(self.place):
+            if self._is_open_at(self.token_at):
                 self._compound(name)
             else:
                 self.found = (name, 0)
@@ -112,14 +112,14 @@ class Parser:
 
     def _compound(self, name):
         """Go on with the ( behind the name of a compound."""
-        self.place += 1
+        self.token_at += 1
         self._enter("f(", ARGUMENT, name, [])
 
     def _named(self, name):
         """Go on behind a name that is not quoted, where no ( follows without a gap."""
-        if name == "-" and self._is_integer_at(self.place):
-            self.found = (-self.row[self.place][1], 0)
-            self.place += 1
+        if name == "-" and self._is_integer_at(self.token_at):
+            self.found = (-self.pieces[self.token_at][1], 0)
+            self.token_at += 1
         elif self._is_prefix(name):
             priority, kind = self.prefix[name]
             self._enter("prefix", bound_of(priority, kind[1]), priority, name)
@@ -134,33 +134,33 @@ class Parser:
         """Tell whether the next token can begin a term."""
         if self.is_over():
             return False
-        kind, value = self.row[self.place][:2]
+        kind, value = self.pieces[self.token_at][:2]
         if kind == "mark":
             return value in OPEN
         if kind != "name" or value not in self.others or value in self.prefix:
             return kind != "end"
-        return self._is_open_at(self.place + 1) or (value == "-" and self._is_integer_at(self.place + 1))
+        return self._is_open_at(self.token_at + 1) or (value == "-" and self._is_integer_at(self.token_at + 1))
 
     def _is_open_at(self, at):
         """Tell whether the token at a place is a ( without a gap ahead of it."""
-        return at < len(self.row) and self.row[at][:2] == ("mark", "(") and not self.row[at][3]
+        return at < len(self.pieces) and self.pieces[at][:2] == ("mark", "(") and not self.pieces[at][3]
 
     def _is_integer_at(self, at):
         """Tell whether the token at a place is an integer without a gap ahead of it."""
-        return at < len(self.row) and self.row[at][0] == "integer" and not self.row[at][3]
+        return at < len(self.pieces) and self.pieces[at][0] == "integer" and not self.pieces[at][3]
 
     def _follow(self):
         """Take an infix or postfix operator, if it is next and fits; tell whether one was taken."""
         if self.is_over():
             return False
-        kind, name = self.row[self.place][:2]
+        kind, name = self.pieces[self.token_at][:2]
         if kind not in ("name", "mark") or name not in self.others:
             return False
         priority, shape = self.others[name]
         term, reached = self.found
         if priority > self.bound or reached > bound_of(priority, shape[0]):
             return False
-        self.place += 1
+        self.token_at += 1
         if len(shape) == 2:
             self.found = ((name, term), priority)
         else:
@@ -184,7 +184,7 @@ class Parser:
             self._keep(held[0])
             self.waiting[-1][0] = "|"
         elif self.is_at("mark", CLOSING[word]):
-            self.place += 1
+            self.token_at += 1
             self._close(bound, _bracketed(word, held, term), 0)
         else:
             self.refuse()
@@ -193,7 +193,7 @@ class Parser:
     def _keep(self, held):
         """Keep a term that has been read, and go on with the one behind the next token."""
         held.append(self.found[0])
-        self.place += 1
+        self.token_at += 1
         self.found = None
 
     def _close(self, bound, term, priority):

@@ -1,29 +1,42 @@
-"""Clauses as worlds keep them."""
+"""Clauses as worlds keep them, and as machines run them."""
 
+from hornmill.emitting import code_of
 from hornmill.terms import is_variable
 
 
-class Kept:
-    """A clause that a world keeps.
+class Coded:
+    """A flat clause as machines run it, compiled when it is first run.
 
-    clause is the clause as stored, flats the list of its flat clause and, behind it, those
-    of its new predicates; index tells what the first argument is at its root.
+    index tells what the first argument of its head is at its root.
     """
 
-    def __init__(self, serial, clause, flats):
+    def __init__(self, flat):
+        self.source = flat
+        self.index = index_of(flat[1])
+        self.written_once = None
+
+    def instructions(self):
+        """The code."""
+        if self.written_once is None:
+            self.written_once = code_of(self.source)
+        return self.written_once
+
+
+class Kept:
+    """A clause that a world keeps: its number, the clause as stored, and as machines run it."""
+
+    def __init__(self, serial, clause, flat):
         self.serial = serial
         self.clause = clause
-        self.flats = flats
-        self.index = index_of(clause[1])
+        self.coded = Coded(flat)
+        self.index = self.coded.index
 
 
-def index_of(head):
+def index_of(args):
     """What the first argument of a head is at its root; None for a variable, or without arguments."""
-    if not isinstance(head, tuple):
+    if args == () or is_variable(args[0]):
         return None
-    first = head[1]
-    if is_variable(first):
-        return None
+    first = args[0]
     return (first[0], len(first)) if isinstance(first, tuple) else (first, 0)
 
 
@@ -39,4 +52,4 @@ def library_clause(flat):
     body = leaves[-1]
     for leaf in reversed(leaves[:-1]):
         body = (",", leaf, body)
-    return Kept(-1, (":-", (key[0], *args), body), [flat])
+    return Kept(-1, (":-", (key[0], *args), body), flat)

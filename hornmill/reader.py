@@ -54,4 +54,4 @@ def _take_end(parser):
     """Take an end; nothing else can stand behind a whole term."""
     if not parser.is_at("end", "."):
         parser.refuse()
-    parser.place += 1
+    parser.token_at += 1

@@ -67,7 +67,7 @@ class Run:
         if task.word == "goal":
             return self._goal(task)
         if task.word == "collect":
-            self.stack[task.level].rest[0].append(read([task.goal])[0][0])
+            self.stack[task.level].needs[0].append(read([task.goal])[0][0])
             return False
         if task.word == "cut":
             self.cut(task.level)
@@ -148,9 +148,9 @@ class Run:
         """The number of choices that stand."""
         return len(self.stack)
 
-    def choose(self, word, rest, behind):
+    def choose(self, word, needs, behind):
         """Make a choice."""
-        self.stack.append(Choice(word, rest, behind, len(self.links)))
+        self.stack.append(Choice(word, needs, behind, len(self.links)))
         self.made += 1
         self.greatest = max(self.greatest, len(self.stack))
 
@@ -184,7 +184,7 @@ class Run:
         self.stack.pop()
         self.task = choice.behind
         if choice.word == "findall":
-            results, found, end = choice.rest
+            results, found, end = choice.needs
             things = [make(result, {}) for result in results]
             known = {k: thing for k, thing in enumerate(things + [end])}
             many = len(things)
@@ -194,22 +194,22 @@ class Run:
 
     def _next_clause(self, choice):
         """Try the next clause of a call."""
-        tried, at, things = choice.rest
+        tried, at, things = choice.needs
         level = self.height() - 1
         if at + 1 == len(tried):
             self.stack.pop()
         else:
-            choice.rest = (tried, at + 1, things)
+            choice.needs = (tried, at + 1, things)
         return self._enter(tried[at], things, level, choice.behind)
 
     def _next_row(self, choice):
         """Take the next row of a builtin."""
-        key, things, k = choice.rest
+        key, things, k = choice.needs
         row, variables = self._row(key, things, k)
         if row[0] == "none" or row[2] is None:
             self.stack.pop()
         else:
-            choice.rest = (key, things, row[2])
+            choice.needs = (key, things, row[2])
         self.task = choice.behind
         return row[0] == "row" and self._join(row[1], variables)
 

@@ -19,9 +19,9 @@ class Task:
 class Choice:
     """An alternative: its word, what it needs, the task behind it, and the length of the trail."""
 
-    def __init__(self, word, rest, behind, length):
+    def __init__(self, word, needs, behind, length):
         self.word = word
-        self.rest = rest
+        self.needs = needs
         self.behind = behind
         self.length = length
 

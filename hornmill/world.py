@@ -5,7 +5,7 @@ from hornmill.collects import library
 from hornmill.errors import BadClause, NoClause
 from hornmill.flat import flattened
 from hornmill.meaning import Query
-from hornmill.program import Kept, library_clause
+from hornmill.program import Coded, Kept, library_clause
 from hornmill.sorts import is_fixed, is_key
 
 
@@ -13,7 +13,7 @@ class World:
     """A program, its output, and a counter for the new predicates of its clauses.
 
     kept has for each known predicate its clauses that live, numbered has each of these by
-    its number, and made the flat clauses of new predicates.
+    its number, and made the clauses of new predicates.
     """
 
     def __init__(self, clauses=()):
@@ -52,8 +52,8 @@ class World:
         if not is_key(key):
             return []
         if key in self.made:
-            return list(self.made[key])
-        return [one.flats[0] for one in self.kept.get(key, [])]
+            return [one.source for one in self.made[key]]
+        return [one.coded.source for one in self.kept.get(key, [])]
 
     def known(self):
         """Return the list of the keys of the known predicates."""
@@ -71,9 +71,9 @@ class World:
         """Add a stored clause ahead of all of its predicate, or behind them."""
         flats = flattened(clause, self.counter)
         for flat in flats[1:]:
-            self.made.setdefault(flat[0], []).append(flat)
+            self.made.setdefault(flat[0], []).append(Coded(flat))
         self.counter += len({flat[0] for flat in flats[1:]})
-        one = Kept(self.many, clause, flats)
+        one = Kept(self.many, clause, flats[0])
         self.many += 1
         self.numbered[one.serial] = one
         row = self.kept.setdefault(flats[0][0], [])
@@ -94,6 +94,10 @@ class World:
         """The clause of a predicate of the library, None for any other key."""
         return self.library.get(key)
 
+    def made_of(self, key):
+        """The clauses of a new predicate."""
+        return self.made[key]
+
     def living(self, key):
         """The numbers of the clauses of a predicate that live."""
         return [one.serial for one in self.kept.get(key, [])]
@@ -109,7 +113,7 @@ class World:
     def erase(self, number):
         """Erase the clause of a number."""
         one = self.numbered.pop(number)
-        self.kept[one.flats[0][0]].remove(one)
+        self.kept[one.coded.source[0]].remove(one)
 
     def abolish(self, key):
         """Erase all clauses of a predicate, and make it unknown."""

@@ -1,7 +1,9 @@
-"""How tests run goals: programs and goals are written as texts."""
+"""How tests run goals, by a query and by a machine: programs and goals are written as texts."""
 
+import copy
 import unittest
 
+from hornmill.machine import Machine
 from hornmill.operators import standard
 from hornmill.reader import read_term, read_terms
 from hornmill.world import World
@@ -28,16 +30,28 @@ def shown(result):
     return result[0] if len(result) == 1 else f"{result[0]} {text_of(result[1])}"
 
 
+def counted(run):
+    """What both kinds of runs count: calls, choices made, the most that stood, and whether one stands."""
+    if isinstance(run, Machine):
+        counts = run.counts()
+        return run.calls(), counts["choices"], counts["standing"], run.is_open()
+    return run.calls(), run.choices(), run.standing(), run.is_open()
+
+
 class Running(unittest.TestCase):
     def answers(self, world, text, most=30, limit=2000):
-        """The results of next up to the end, or up to so many."""
-        query = world.query(goal(text), limit=limit)
+        """The results of next up to the end, or up to so many; a query and a machine must agree."""
+        other = copy.deepcopy(world)
+        query, machine = world.query(goal(text), limit=limit), Machine(other, goal(text), limit=limit)
         found = []
         while len(found) < most:
             result = query.next()
+            self.assertEqual((machine.next(), counted(machine)), (result, counted(query)))
             if result == ("no",):
                 break
             found.append(shown(result))
+        self.assertEqual(other.output(), world.output())
+        self.assertEqual([(key, other.clauses(key)) for key in other.known()], [(key, world.clauses(key)) for key in world.known()])
         return found
 
     def check(self, world, text, *expected, **more):

@@ -11,6 +11,9 @@ from hornmill.errors import NoText
 from hornmill.flat import flattened
 from hornmill.general import join_of, meet_of
 from hornmill.heap import Store
+from hornmill.index import Index, switches
+from hornmill.judge import held, judge
+from hornmill.machine import Machine
 from hornmill.operators import standard, with_operator
 from hornmill.reader import ending, read_term
 from hornmill.signs import tokens
@@ -123,6 +126,31 @@ class Examples(unittest.TestCase):
             [("frame", 3), ("take_new", ("y", 2), 2), ("take_struct", ".", 2, 1), ("arg_new", ("y", 1)), ("arg_new", ("x", 4)), ("give_old", ("x", 4), 1),
              ("give_new", ("y", 3), 2), ("call", ("rev", 2), 3), ("give_unsafe", ("y", 3), 1), ("give_struct", ".", 2, 2), ("arg_old", ("y", 1)),
              ("arg_const", "[]"), ("give_old", ("y", 2), 3), ("unframe",), ("jump", ("app", 3))])
+
+    def test_index(self):
+        clauses = [(("p", 1), ("a",), ()), (("p", 1), ((0,),), ()), (("p", 1), (("f", (0,)),), ())]
+        self.assertEqual(
+            [Index(clauses).row(("con", "a")), Index(clauses).row(("int", 3)), Index(clauses).known(), switches(clauses)],
+            [[0, 1], [1], [("con", "a"), ("fun", "f", 1)],
+             [("on_kind", 3, 1, 6, 2), ("on_con", (("a", 7),), 6), ("on_fun", ((("f", 1), 9),), 6), ("try", 0), ("retry", 1), ("trust", 2), ("only", 1), ("try", 0),
+              ("trust", 1), ("try", 1), ("trust", 2)]])
+
+    def test_machines(self):
+        machine = Machine(World([("p", 1), ("p", 2)]), ("p", (0,)))
+        self.assertEqual([machine.next(), machine.is_open(), machine.next(), machine.is_open(), machine.next(), machine.calls()],
+                         [("yes", [1]), True, ("yes", [2]), False, ("no",), 1])
+        machine = Machine(World(["a"]), "a")
+        rows = [machine.place(), machine.step(), machine.place(), machine.step(), machine.place(), machine.step(), machine.place()]
+        self.assertEqual([rows, machine.step()], [[None, None, ((-11, 0), 0), None, (("a", 0), 0), None, "END"], ("yes", [])])
+        world = World([("p", (0,), ("f", (0,)))])
+        self.assertEqual([Machine(world, ("p", (0,), (0,))).next(), Machine(world, ("p", (0,), (1,))).next()], [("no",), ("yes", [(0,), ("f", (0,))])])
+        self.assertEqual(Machine(World([]), ("catch", ("is", (0,), "a"), (1,), "true")).next(),
+                         ("yes", [(0,), ("error", ("type_error", "evaluable", ("/", "a", 0)), ("/", "is", 2))]))
+
+    def test_judge(self):
+        code = [("frame", 1), ("give_new", ("y", 1), 1), ("call", ("p", 1), 1), ("give_old", ("y", 1), 1), ("unframe",), ("jump", ("q", 1))]
+        self.assertEqual([judge(0, code), held(0, code, 3), judge(0, code[:3] + [("give_unsafe", ("y", 1), 1)] + code[4:])],
+                         [(5, "unsafe"), (1, {("y", 1): ("slot", 1)}), None])
 
     def test_readme(self):
         path = pathlib.Path(__file__).resolve().parent.parent / "README.md"

@@ -42,6 +42,14 @@ INTERFACE = {
     "chunks": ["chunks(flat)", "slots(flat)", "trims(flat)", "has_frame(flat)"],
     "compiling": ["compiled(flat)", "unsafe(flat)", "size(flat)"],
     "clausecode": ["flat_of(key, code)"],
+    "index": ["index_key(term)", "Index(clauses)", "Index.row(key)", "Index.known()", "Index.rest()", "tried(clauses, args)", "fitting(clauses, args)",
+              "switches(clauses)", "rows_of(switches)"],
+    "machine": ["Machine(world, goal, *, limit=2000)", "Machine.next()", "Machine.step()", "Machine.is_open()", "Machine.calls()", "Machine.top()",
+                "Machine.entry()", "Machine.heap()", "Machine.trail()", "Machine.frames()", "Machine.choices()", "Machine.registers()", "Machine.counts()",
+                "Machine.place()"],
+    "judge": ["judge(arity, code)", "held(arity, code, place)", "least_trims(code)"],
+    "reach": ["is_at_clause(machine)", "frames_behind(machine, i)", "reached(machine, i)"],
+    "collect": ["collect(machine)"],
 }
 
 BUILTINS = set("""len range enumerate zip min max sum abs sorted reversed int str bool bytes list tuple dict set isinstance ord
