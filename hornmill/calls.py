@@ -20,7 +20,7 @@ from hornmill.unify import unify
 OWN_SLOTS = 3
 
 
-def begin(engine):
+def _begin(engine):
     """Call the goal of a run."""
     goal = called_goal([engine.goal])
     flats = flat_goal(goal, engine.free_name)
@@ -83,7 +83,7 @@ def _read(engine, many):
     return engine.store.read([engine.held[i + 1] for i in range(many)])
 
 
-def call(engine, instruction):
+def _call_instruction(engine, instruction):
     """Do the instruction call."""
     word, key, kept = instruction
     engine.back = Spot("run", engine.clause, engine.line, kept)
@@ -91,12 +91,12 @@ def call(engine, instruction):
     return call_key(engine, key)
 
 
-def jump(engine, instruction):
+def _jump_instruction(engine, instruction):
     """Do the instruction jump."""
     return call_key(engine, instruction[1])
 
 
-def builtin(engine, instruction):
+def _builtin_instruction(engine, instruction):
     """Do the instruction builtin."""
     return _do_builtin(engine, instruction[1], None)
 
@@ -198,7 +198,7 @@ def _call_within(engine, word, cell):
 CONTROL = {"call": _call, "throw": _throw, "catch": _catch, "findall": _findall}
 
 
-def leave(engine):
+def _leave(engine):
     """Leave the goal of a catch."""
     level = engine.cell_in(("y", 1))[1]
     if len(engine.points) == level + 1:
@@ -207,7 +207,7 @@ def leave(engine):
     return engine.go_on()
 
 
-def collect_result(engine):
+def _collect(engine):
     """Put a result to those of a findall; return False, to fail for the next one."""
     point = engine.points[engine.cell_in(("y", 1))[1]]
     point.results.append(engine.store.read([engine.cell_in(("y", 2))])[0][0])
@@ -279,3 +279,7 @@ def _catches(engine, frame, ball):
     store.join(build(engine, ball, {}), catcher)
     engine.held = {1: recovery}
     return True
+
+
+CALL_INSTRUCTIONS = {"call": _call_instruction, "jump": _jump_instruction, "builtin": _builtin_instruction}
+CONTINUATIONS = {"begin": _begin, "LEAVE": _leave, "COLLECT": _collect}

@@ -2,7 +2,7 @@
 
 from hornmill.errors import BadTerm, NoCode, NoFlat, NoKey
 from hornmill.flatforms import no_flat
-from hornmill.switching import SwitchReader, SwitchWriter, Unread, is_index_key, known_keys, rest_row, row_for
+from hornmill.switching import NoSwitches, SwitchReader, SwitchWriter, is_index_key, known_keys, rest_row, row_for
 from hornmill.terms import demand_term, is_term, is_variable, numbers_in, replaced
 from hornmill.unify import unify
 
@@ -97,7 +97,7 @@ def rows_of(switches):
     try:
         reader = SwitchReader(switches)
         keys = reader.told_keys()
-    except Unread:
+    except NoSwitches:
         raise NoCode("form")
     if SwitchWriter(keys).instructions() != switches:
         raise NoCode("form")

@@ -1,14 +1,12 @@
 """The machine: goals by compiled code."""
 
-from hornmill.calls import begin, builtin, call, catch_ball, collect_result, fail, jump, leave
+from hornmill.calls import CALL_INSTRUCTIONS, CONTINUATIONS, catch_ball, fail
 from hornmill.engine import Engine
 from hornmill.errors import BadGoal, BadValue
 from hornmill.instructions import INSTRUCTIONS
 from hornmill.tasks import LimitMet, Thrown
 from hornmill.terms import is_number, is_term, renumbered
 
-CALL_INSTRUCTIONS = {"call": call, "jump": jump, "builtin": builtin}
-CONTINUATIONS = {"begin": begin, "LEAVE": leave, "COLLECT": collect_result}
 PLACE_WORDS = ("END", "LEAVE", "COLLECT")
 
 

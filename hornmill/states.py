@@ -21,7 +21,7 @@ def demand_choice(engine, i):
 class State:
     """What an engine has now, or what it would have after failing to choice point i.
 
-    size is that of the heap. unbound are the places that are unbound variables again.
+    size_then is that of the heap. unbound are the places that are unbound variables again.
     """
 
     def __init__(self, engine, i):
@@ -53,7 +53,8 @@ class State:
                 found[("s", base + 2 + at)] = True
                 waiting.append(cell)
         while waiting:
-            for address in self._places_of(waiting.pop()):
+            places = self._places_of(waiting.pop())
+            for address in places:
                 if address not in found:
                     found[address] = True
                     waiting.append(self.cell_at(address))

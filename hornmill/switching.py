@@ -10,7 +10,7 @@ TABLE_WORDS = {"on_con": "con", "on_int": "int", "on_fun": "fun"}
 ROW_WORDS = ("only", "try", "retry", "trust")
 
 
-class Unread(Exception):
+class NoSwitches(Exception):
     """A list of instructions is no index."""
 
     def __init__(self):
@@ -148,7 +148,7 @@ class SwitchReader:
 
     def __init__(self, switches):
         if not isinstance(switches, list) or not all([_is_switch(one) for one in switches]):
-            raise Unread()
+            raise NoSwitches()
         self.switches = switches
         self.all_row = []
         self.rows = []
@@ -186,7 +186,7 @@ class SwitchReader:
                 return found
             words = ("retry", "trust")
             place += 1
-        raise Unread()
+        raise NoSwitches()
 
     def told_keys(self):
         """The index keys of the clauses, if this is an index."""
@@ -195,7 +195,7 @@ class SwitchReader:
         for key, row in self.rows:
             for k in row:
                 if k >= len(found):
-                    raise Unread()
+                    raise NoSwitches()
                 if k not in others:
                     found[k] = key
         return found
