@@ -153,14 +153,17 @@ class SwitchReader:
         self.all_row = []
         self.rows = []
         self.rest_now = []
-        if switches == []:
-            return
-        if switches[0][0] != "on_kind":
+        if switches != []:
+            self._read(switches[0])
+
+    def _read(self, first):
+        """Read what there is, from the first instruction on."""
+        if first[0] == "on_kind":
+            self.all_row = self._row(first[1])
+            self._read_tables()
+        else:
             self.all_row = self._row(0)
             self.rest_now = self.all_row
-        else:
-            self.all_row = self._row(switches[0][1])
-            self._read_tables()
 
     def _read_tables(self):
         """Read the tables behind on_kind."""

@@ -5,13 +5,12 @@ import unittest
 from hornmill.collect import collect
 from hornmill.machine import Machine
 from hornmill.reach import frames_behind, is_at_clause, reached
-from tests.running import goal, program
-from tests.test_flat_run import some_clause
-from tests.test_flat_run import some_goal
-from tests.support import chance
-from tests.test_machine import run_to, told
-from tests.test_reach import heap, machine_at, restored, stack
 from hornmill.world import World
+from tests.running import goal, program
+from tests.support import chance
+from tests.test_flat_run import some_clause, some_goal
+from tests.test_machine import told
+from tests.test_reach import heap, machine_at, restored
 
 
 def shape(machine):
