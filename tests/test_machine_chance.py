@@ -6,9 +6,10 @@ from hornmill.code import is_code
 from hornmill.compiling import compiled
 from hornmill.machine import Machine
 from hornmill.meaning import Query
+from hornmill.sorts import SORTS
 from hornmill.world import World
 from tests.running import counted
-from tests.support import chance
+from tests.support import chance, list_of
 from tests.test_flat_run import some_clause, some_goal
 from tests.test_ways import LAYERS
 from tests.test_ways import some_clause as some_plain_clause
@@ -26,6 +27,34 @@ def some_plain_run(seed):
     rng = chance(seed)
     clauses = [some_plain_clause(rng) for _ in range(8)] + [(name, 0, 1) for name in LAYERS]
     return clauses, some_plain_goal(rng, 3, 0), 2000
+
+
+BUILTINS = [key for key, sort in SORTS.items() if isinstance(key[0], str) and sort != "control"]
+BUILTINS += [("bagof", 3), ("setof", 3), ("aggregate_all", 3), ("call", 2), ("call", 3), ("findall", 3), ("findall", 4)]
+
+
+def some_argument(rng, depth=2):
+    """A term that many builtins do not refuse."""
+    kind = rng.randrange(13 if depth else 8)
+    if kind < 3:
+        return (rng.randrange(5),)
+    if kind < 8:
+        return rng.choice(["a", "ab", "", "[]", "+", "p", "count", 0, 1, 2, -1, 97, 50])
+    if kind < 10:
+        return list_of([some_argument(rng, depth - 1) for _ in range(rng.randrange(4))], rng.choice(["[]", "[]", "[]", (rng.randrange(5),)]))
+    if kind == 10:
+        return (rng.choice(["-", "+", "*", "mod", "^"]), some_argument(rng, depth - 1), some_argument(rng, depth - 1))
+    return (rng.choice(["p", "sum", "max", "bag", "f"]), some_argument(rng, depth - 1))
+
+
+def some_builtin_goal(rng, depth):
+    kind = rng.randrange(9 if depth else 3)
+    if kind < 3:
+        name, arity = rng.choice(BUILTINS)
+        return (name, *[some_argument(rng) for _ in range(arity)]) if arity else name
+    one, other = some_builtin_goal(rng, depth - 1), some_builtin_goal(rng, depth - 1)
+    return [(",", one, other), (",", one, other), (";", one, other), ("catch", one, (rng.randrange(5),), other), ("\\+", one),
+            ("findall", some_argument(rng), one, (rng.randrange(5),))][kind - 3]
 
 
 class Agreement(unittest.TestCase):
@@ -49,6 +78,16 @@ class Agreement(unittest.TestCase):
             with self.subTest(seed=seed):
                 words += self.compared(World(clauses), World(clauses), asked, limit, 12)
         for word, least in (("yes", 600), ("no", 2000), ("thrown", 400), ("limit", 100)):
+            self.assertGreater(words.count(word), least)
+
+    def test_builtins(self):
+        words = []
+        for seed in range(2500):
+            rng = chance(seed)
+            clauses = [("p", some_argument(rng)) for _ in range(3)] + [(":-", ("p", some_argument(rng)), some_builtin_goal(rng, 1))]
+            with self.subTest(seed=seed):
+                words += self.compared(World(clauses), World(clauses), some_builtin_goal(rng, 3), 15, 8)
+        for word, least in (("yes", 300), ("thrown", 800)):
             self.assertGreater(words.count(word), least)
 
     def test_plain_programs(self):
